@@ -1,0 +1,1 @@
+"""Turnbase: groups of turnings of up to sixty places."""

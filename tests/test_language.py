@@ -8,6 +8,8 @@ import unittest
 
 PACKAGE = pathlib.Path(__file__).resolve().parent.parent / "turnbase"
 
+MODULES = set("errors turnings texts recipes partings chains groups acts".split())
+
 OWN_NAMES = set("""len range enumerate zip min max sum abs sorted reversed int str bool list tuple dict set frozenset isinstance ord
 repr any all divmod Exception ValueError TypeError KeyError IndexError LookupError ZeroDivisionError ArithmeticError OverflowError
 RuntimeError NotImplementedError AttributeError StopIteration""".split())
@@ -24,6 +26,8 @@ KEYWORDS = {
     "sorted": {"key", "reverse"}, "min": {"key", "default"}, "max": {"key", "default"}, "sum": {"start"}, "enumerate": {"start"},
     "zip": {"strict"},
 }
+VALUE_NAMES = set("count index title find get join lower upper split strip copy add".split())
+OWN_ATTRIBUTES = {name for kind in (str, int, list, tuple, dict, set, frozenset, bytes) for name in dir(kind)} | {"args", "format"}
 WALKED = set("zip enumerate reversed range".split())
 WALKED_METHODS = set("items keys values".split())
 WALKERS = set("list tuple dict sorted sum any all enumerate zip min max".split())
@@ -55,6 +59,7 @@ class Look:
         self.methods = {part.name for node in every if isinstance(node, ast.ClassDef) for part in defs_in(node)}
         self.values = {node.attr for node in every if isinstance(node, ast.Attribute) and isinstance(node.ctx, ast.Store)}
         self.errors = {node.name for node in every if isinstance(node, ast.ClassDef) and node.bases}
+        self.classes = {node.name for node in every if isinstance(node, ast.ClassDef)}
         for name, tree in self.trees.items():
             self.look_at_tree(name, tree)
         self.look_at_circles()
@@ -163,6 +168,8 @@ class Look:
     def look_at_statement(self, name, node, parents):
         if isinstance(node, ast.Assign) and (len(node.targets) != 1 or isinstance(node.targets[0], (ast.Tuple, ast.List))):
             self.fault("L6", name, node)
+        if isinstance(node, ast.For) and changes_what_it_walks(node):
+            self.fault("L23", name, node)
         if isinstance(node, (ast.For, ast.While)) and node.orelse or isinstance(node, ast.Try) and node.finalbody:
             self.fault("L6", name, node)
         if isinstance(node, ast.Expr) and not isinstance(node.value, ast.Call) and not isinstance(parents[node], ast.Module):
@@ -186,6 +193,8 @@ class Look:
             self.fault("L21", name, node)
         if node.end_lineno - node.lineno >= 40:
             self.fault("L10", name, node)
+        if node.name == "__init__" and any(isinstance(part, ast.Return) and part.value for part in ast.walk(node)):
+            self.fault("L28", name, node)
 
     def look_at_class(self, name, node, parents):
         bases = [getattr(base, "id", "") for base in node.bases]
@@ -199,6 +208,11 @@ class Look:
         made = [part.name for part in defs_in(node)]
         if len(made) != len(set(made)) or set(made) & self.values:
             self.fault("L18", name, node)
+        if set(made) & OWN_ATTRIBUTES - OWN_METHODS - TWO_UNDERSCORES - {"add", "discard"}:
+            self.fault("L26", name, node)
+        # Best not written, so none is looked at more closely.
+        if set(made) & TWO_UNDERSCORES - {"__init__"}:
+            self.fault("L28", name, node)
 
     def look_at_handler(self, name, node, parents):
         kinds = node.type.elts if isinstance(node.type, ast.Tuple) else [node.type]
@@ -247,6 +261,8 @@ class Look:
     def look_at_own_name(self, name, node, parents):
         if node.id in NAMES_OUT:
             self.fault("L27" if node.id == "chr" else "L17", name, node)
+        if node.id in self.classes and not is_class_in_its_place(node, parents):
+            self.fault("L18", name, node)
         if node.id not in OWN_NAMES:
             return
         above = parents[node]
@@ -265,6 +281,11 @@ class Look:
             self.fault("L12", name, node)
         if node.attr not in OWN_METHODS | self.methods | self.values | {"__init__"}:
             self.fault("L25", name, node)
+        if isinstance(node.ctx, ast.Store):
+            if node.attr in OWN_ATTRIBUTES - VALUE_NAMES:
+                self.fault("L26", name, node)
+            if getattr(node.value, "id", None) in self.tops[name]:
+                self.fault("L18", name, node)
         above = parents[node]
         called = isinstance(above, ast.Call) and above.func is node or isinstance(above, ast.keyword) and above.arg == "key"
         if node.attr not in self.values and not called:
@@ -302,6 +323,30 @@ def is_plain(node):
     return isinstance(node, (ast.Constant, ast.Name))
 
 
+def changes_what_it_walks(loop):
+    walked = loop.iter
+    while isinstance(walked, ast.Call) and walked.args and getattr(walked.func, "id", None) in WALKED - {"range"}:
+        walked = walked.args[0]
+    if isinstance(walked, ast.Call) and getattr(walked.func, "attr", None) in WALKED_METHODS:
+        walked = walked.func.value
+    changed = []
+    for node in [part for row in loop.body for part in ast.walk(row)]:
+        if isinstance(node, ast.Subscript) and isinstance(node.ctx, ast.Store):
+            changed.append(node.value)
+        if isinstance(node, ast.Call) and getattr(node.func, "attr", None) in CHANGING:
+            changed.append(node.func.value)
+    return ast.unparse(walked) in [ast.unparse(node) for node in changed]
+
+
+def is_class_in_its_place(node, parents):
+    above = parents[node]
+    if isinstance(above, ast.Tuple):
+        above = parents[above]
+    if isinstance(above, ast.Call):
+        return above.func is node or getattr(above.func, "id", None) == "isinstance" and node is not above.args[0]
+    return isinstance(above, (ast.ClassDef, ast.ExceptHandler)) or getattr(above, "attr", None) == "__init__"
+
+
 def is_walked(node, above):
     if isinstance(above, (ast.For, ast.comprehension)):
         return above.iter is node
@@ -335,6 +380,7 @@ class PackageTest(unittest.TestCase):
 
     def test_it_keeps_to_its_part_of_the_language(self):
         sources = {path.stem: path.read_text(encoding="utf-8") for path in PACKAGE.glob("*.py")}
+        self.assertLessEqual(MODULES, set(sources))
         self.assertEqual(Look(sources).faults, [])
 
 
@@ -346,6 +392,8 @@ class LookTest(unittest.TestCase):
             '"""Remark."""\n\nfrom turnbase.other import told\n\nNAMES = ("a", "b")\nSIZES = {"a": 1}\n\n\n'
             "class Wrong(ValueError):\n    pass\n\n\nclass Box:\n    def __init__(self, size=3):\n        self.size = size\n\n"
             "    def grown(self, by):\n        return Box(self.size + by)\n\n\n"
+            "class Large(Box):\n    def __init__(self, count):\n        Box.__init__(self, 99)\n        self.count = count\n\n"
+            "    def add(self, thing):\n        return isinstance(thing, (Box, Large))\n\n\n"
             "def worth(things):\n    found = {}\n    for k, thing in enumerate(things):\n        found[thing] = k ** 2\n"
             "    if len(set(things)) != len(found) or things is None:\n        raise Wrong(f\"none of {things}\")\n"
             "    return [told(k) for k in sorted(found.items(), key=lambda pair: pair[1]) if k in SIZES]\n"
@@ -364,7 +412,9 @@ class LookTest(unittest.TestCase):
             "L19": ("try:\n  y = 1\n except Exception:\n  pass", "try:\n  y = 1\n except TypeError:\n  pass", "try:\n  y = 1\n except:\n  pass"),
             "L20": ("y = x is 3", "y = x is not x"),
             "L22": ("y = [len, x]", "y = sorted(x, key=repr)", "y = int(x, base=2)", "y = isinstance(x, set)"),
-            "L23": ("y = range(3)", "y = zip(x, x)", "y = x.items()", "y = list(reversed(range(3)))", "y = min(range(3), 1)"),
+            "L23": ("y = range(3)", "y = zip(x, x)", "y = x.items()", "y = list(reversed(range(3)))", "y = min(range(3), 1)",
+                    "for y in x:\n  x.append(y)", "for y in x.z:\n  x.z[0] = y", "for k, y in enumerate(x):\n  x.pop()",
+                    "for k, y in x.items():\n  x[k] = y"),
             "L24": ("y = set(x)", "for y in set(x):\n  pass", "y = {1, 2}", "y = list(set(x))"),
             "L25": ("x.sort()", "y = x.title()", "y = x.append"),
             "L27": ("y = 2 ** x", "y = 'a%b'", "y = chr(x)", "y = '\\x00'"),
@@ -383,7 +433,12 @@ class LookTest(unittest.TestCase):
             "L14": ("x = '\t'", "x = '\u00e4'"),
             "L15": ("x = 1\nx = 2", "x = [[1]]", "x = {'a': [1]}", "from turnbase.other import told\ndef f(told):\n    return told"),
             "L16": ("from turnbase.other import nothing",),
-            "L18": ("class A:\n    def f(self):\n        pass\n    def f(self):\n        pass", "class A:\n    def f(self):\n        self.f = 1"),
+            "L18": ("class A:\n    def f(self):\n        pass\n    def f(self):\n        pass", "class A:\n    def f(self):\n        self.f = 1",
+                    "class A:\n    pass\ndef f(x):\n    return [A]", "class A:\n    pass\ndef f(x):\n    A.x = 1",
+                    "class A:\n    pass\ndef f(x):\n    return f(A)"),
+            "L26": ("class A:\n    def title(self):\n        pass", "class A:\n    def __init__(self):\n        self.items = []",
+                    "class A:\n    def union(self):\n        pass", "class A:\n    def __init__(self):\n        self.real = 1"),
+            "L28": ("class A:\n    def __init__(self):\n        return None", "class A:\n    def __len__(self):\n        return 3"),
             "L21": ("def f(x: int):\n    pass", "def f() -> int:\n    pass"),
         }
         for rule, sources in outer.items():

@@ -1,6 +1,7 @@
 import copy
 import unittest
 
+from helpers import GREAT, Ill
 from turnbase.errors import NoRecipe, NoText, TooMany
 from turnbase.recipes import (
     is_recipe, lengths, read_recipe, shown_recipe, spelled, trimmed, walked, worked,
@@ -12,20 +13,6 @@ MAKERS = [ONE, OTHER]
 LINES = [
     ("told", 1), ("still",), ("told", 0), ("behind", 2, 0), ("back", 3), ("behind", 4, 1), ("behind", 5, 5), ("told", 1),
 ]
-GREAT = 10 ** 299
-
-
-class Ill:
-    """Refuses to be compared, looked up or shown."""
-
-    def __eq__(self, other):
-        raise RuntimeError
-
-    def __hash__(self):
-        raise RuntimeError
-
-    def __repr__(self):
-        raise RuntimeError
 
 
 def doubled(times):

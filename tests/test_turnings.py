@@ -1,24 +1,12 @@
 import itertools
 import unittest
 
+from helpers import GREAT, Ill, mixed_up
 from turnbase.turnings import (
     back, behind, is_even, is_turning, is_whole, loops, order, power, shape, still, turned,
 )
 
 FOUR = list(itertools.permutations(range(4)))
-GREAT = 10 ** 299 + 7
-
-
-def mixed_up(many, seed):
-    """A turning that looks like chance but is the same in every run."""
-    places = list(range(many))
-    for last in range(many - 1, 0, -1):
-        seed = (seed * 1103515245 + 12345) % 2 ** 31
-        other = (seed >> 8) % (last + 1)
-        places[last], places[other] = places[other], places[last]
-    return tuple(places)
-
-
 SAMPLES = FOUR + [(0,), (0, 1), (1, 0)] + [mixed_up(many, many) for many in (5, 17, 59, 60)]
 # Loops of 2, 3, 5, 7, 11, 13 and 17 places and two places that stay.
 PRIMES = tuple(
@@ -26,22 +14,6 @@ PRIMES = tuple(
     for first, length in ((0, 17), (17, 13), (30, 11), (41, 7), (48, 5), (53, 3), (56, 2), (58, 1), (59, 1))
     for step in range(length)
 )
-
-
-class Ill:
-    """Refuses to be compared, looked up or shown."""
-
-    def __eq__(self, other):
-        raise RuntimeError
-
-    def __lt__(self, other):
-        raise RuntimeError
-
-    def __hash__(self):
-        raise RuntimeError
-
-    def __repr__(self):
-        raise RuntimeError
 
 
 class IsWholeTest(unittest.TestCase):

@@ -1,7 +1,7 @@
 """Turnings, numbers and rows of places as texts, written and read."""
 
 from turnbase.errors import NoText
-from turnbase.turnings import loops, still
+from turnbase.turnings import is_each_once, loops, still
 
 FIGURES = "0123456789"
 NUMBER_FIGURES = 90
@@ -26,7 +26,7 @@ def need_text(thing):
 
 
 def need_each_once(things):
-    if len(set(things)) != len(things):
+    if not is_each_once(things):
         raise NoText("something stands twice in the text")
 
 

@@ -16,6 +16,18 @@ def is_turning(thing):
     return sorted(thing) == list(range(len(thing)))
 
 
+def is_each_once(things):
+    return len(set(things)) == len(things)
+
+
+def is_place(thing, many):
+    return is_whole(thing) and 0 <= thing < many
+
+
+def is_turning_of(thing, many):
+    return is_turning(thing) and len(thing) == many
+
+
 def still(many):
     return tuple(range(many))
 

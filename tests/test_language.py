@@ -8,7 +8,7 @@ import unittest
 
 PACKAGE = pathlib.Path(__file__).resolve().parent.parent / "turnbase"
 
-MODULES = set("errors turnings texts recipes partings chains groups acts".split())
+MODULES = set("errors turnings texts recipes partings chains groups acts rings parts stairs desk".split())
 
 OWN_NAMES = set("""len range enumerate zip min max sum abs sorted reversed int str bool list tuple dict set frozenset isinstance ord
 repr any all divmod Exception ValueError TypeError KeyError IndexError LookupError ZeroDivisionError ArithmeticError OverflowError

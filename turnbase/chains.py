@@ -115,6 +115,15 @@ class Chain:
     def base_steps(self):
         return [step for step in self.steps if len(step.line_to) > 1]
 
+    def size(self):
+        product = 1
+        for step in self.steps:
+            product *= len(step.line_to)
+        return product
+
+    def movers_at(self, level):
+        return [self.book.made[line] for line in self.steps[level].movers]
+
     def least_of(self, turning, level):
         here = turning
         for step in self.steps[level:]:

@@ -41,11 +41,11 @@ class Group:
     def told(self):
         return list(self.makers)
 
+    def lean_makers(self):
+        return self.chain.movers_at(0)
+
     def size(self):
-        product = 1
-        for step in self.chain.base_steps():
-            product *= len(step.line_to)
-        return product
+        return self.chain.size()
 
     def base(self):
         return [step.place for step in self.chain.base_steps()]
@@ -113,10 +113,31 @@ class Group:
         return (list(self.chain.book.lines), steps)
 
 
+# A group in the making: so each turning that it is to have is asked of what is there, and nothing is made twice.
+class Growth:
+    def __init__(self, many):
+        self.many = many
+        self.found = []
+        self.chain = Chain(many)
+
+    def take(self, turning):
+        is_new = self.chain.take(len(self.found), turning)
+        if is_new:
+            self.found.append(turning)
+        return is_new
+
+    def size(self):
+        return self.chain.size()
+
+    def whole(self):
+        group = Group(self.many, [])
+        group.makers = tuple(self.found)
+        group.chain = self.chain
+        return group
+
+
 def lean(many, makers):
-    chain = Chain(many)
-    found = []
-    for number, maker in enumerate(makers):
-        if chain.take(number, maker):
-            found.append(maker)
-    return found
+    growth = Growth(many)
+    for maker in makers:
+        growth.take(maker)
+    return growth.found

@@ -85,6 +85,9 @@ class Look:
         parents = {child: node for node in ast.walk(tree) for child in ast.iter_child_nodes(node)}
         self.look_at_top(name, tree)
         self.look_at_names(name, tree)
+        lambdas = [(node.lineno, ast.unparse(node.args)) for node in ast.walk(tree) if isinstance(node, ast.Lambda)]
+        if len(lambdas) != len(set(lambdas)):
+            self.fault("L13", name, tree)
         for node in ast.walk(tree):
             if not isinstance(node, NODES) or isinstance(node, (ast.Div, ast.MatMult)):
                 self.fault("L7" if isinstance(node, (ast.expr, ast.operator)) else "L6", name, node)
@@ -407,6 +410,7 @@ class LookTest(unittest.TestCase):
                    "y = [a for a in x for b in a]", "y = (z := x)"),
             "L8": ("y = map(x, x)", "y = hash(x)", "print(x)", "y = filter"),
             "L12": ("y = 0\n _z = 1", "for _ in x:\n  pass"),
+            "L13": ("y = [lambda a: a, lambda a: 1]",),
             "L15": ("len = x", "for next in x:\n  pass", "TOP.append(x)", "TOP[0] = x"),
             "L17": ("y = getattr(x, 'a')", "y = x.format(1)", "y = 'the type'", "y = 0  # an enum", "y = 'dataclasses'"),
             "L19": ("try:\n  y = 1\n except Exception:\n  pass", "try:\n  y = 1\n except TypeError:\n  pass", "try:\n  y = 1\n except:\n  pass"),

@@ -278,7 +278,7 @@ class Desk:
         return read_word(kind, word, many)
 
     def group_by(self, name):
-        need_name(name)
+        # What is no name is refused here too, since no group was laid by it.
         if name not in self.groups:
             raise NoName("no group stands by this name")
         return self.groups[name]

@@ -113,7 +113,7 @@ class Group:
         return (list(self.chain.book.lines), steps)
 
 
-# A group in the making: so each turning that it is to have is asked of what is there, and nothing is made twice.
+# A group in the making, for turnings that are met one by one: its chain is handed on, so that it is not made twice.
 class Growth:
     def __init__(self, many):
         self.many = many

@@ -35,6 +35,7 @@ def of_few_makers(group):
 
 def joined(one, other):
     need_same_places(one, other)
+    # At most ninety lean ones of each: never too many for a group, as all makers of both may be.
     return Group(one.many, one.lean_makers() + other.lean_makers())
 
 

@@ -13,6 +13,7 @@ def about(group, by):
 
 
 def is_turned_within(part, by):
+    # Turned about, the part is as large as before: so it stays the same where its makers stay within it.
     return all([part.has(turned(maker, by)) for maker in part.lean_makers()])
 
 
@@ -27,6 +28,7 @@ def least_kept(group, turnings):
     while len(waiting) > 0 and growth.size() < group.size():
         turning = waiting.pop()
         if growth.take(turning):
+            # What is kept by each maker of the group is kept by all its turnings.
             waiting.extend([turned(turning, maker) for maker in group.lean_makers()])
     return growth.whole()
 

@@ -4,10 +4,11 @@ import unittest
 
 from helpers import ANYTHING, all_made, by_blocks, loop, mixed_up
 from known import BUILT, FOUR, ONE_MORE, SMALL, THOUSAND
-from turnbase.acts import Sides
+from turnbase.acts import Lists, Sides
 from turnbase.errors import NoGroup, NoThing, NotPart, TooMany
 from turnbase.groups import Group
 from turnbase.parts import common, fixing, is_part, joined, same, shadow, sides
+from turnbase.rings import Ring
 from turnbase.turnings import behind, is_even, is_turning, still
 
 # Each group of four places once, and further ones: made in several ways.
@@ -75,7 +76,7 @@ class JoinedTest(unittest.TestCase):
     def test_lean_and_still_ones(self):
         self.assertEqual(joined(ALONE, ALONE).size(), 1)
         self.assertEqual(joined(Group(1, []), Group(1, [(0,)] * 200)).size(), 1)
-        for name in ("even", "cube", "tens"):
+        for name in ("halves", "cube", "tens"):
             alone = Group(BUILT[name].many, [])
             self.assertEqual(joined(BUILT[name], alone).ground(), BUILT[name].ground())
             self.assertEqual(joined(alone, BUILT[name]).ground(), BUILT[name].ground())
@@ -176,7 +177,7 @@ class FixingTest(unittest.TestCase):
     def test_groups_far_too_large_to_be_listed(self):
         for name, places, size in (
             ("all", [59], math.factorial(59)), ("all", [3, 59, 7, 3, 59], math.factorial(57)), ("all", list(range(0, 60, 2)), math.factorial(30)),
-            ("even", [0, 59], math.factorial(58) // 2), ("even", list(range(58)), 1), ("even", list(range(2, 59)), 3), ("all", list(range(2, 60)), 2),
+            ("even", [0, 59], math.factorial(58) // 2), ("even", list(range(2, 59)), 3), ("all", list(range(2, 60)), 2),
             ("halves", list(range(30, 60)), math.factorial(30)), ("flips", [59], 2 ** 29), ("flips", list(range(40)), 2 ** 10),
             ("pairs", [59], 2 ** 29 * math.factorial(29)), ("tens", [0, 59], math.factorial(9) ** 2 * math.factorial(10) ** 4 * 24),
             ("mathieu", [23, 11], 443520), ("mathieu", [23, 11, 5, 2, 0], 48), ("regular", [17], 1), ("round", [30], 1),
@@ -188,7 +189,10 @@ class FixingTest(unittest.TestCase):
 
     def test_the_ring_of_the_list_tells_the_same(self):
         for name, places in (("mathieu", [4, 20]), ("cube", [40]), ("halves", [31, 2]), ("tens", [59])):
-            self.assertEqual(fixing(BUILT[name], places).ground(), fixing(BUILT[name], list(reversed(places)) * 2).ground())
+            group = BUILT[name]
+            ground = fixing(group, places).ground()
+            self.assertEqual(fixing(group, list(reversed(places)) * 2).ground(), ground)
+            self.assertEqual(Ring(group, Lists(group.many), places).keepers().ground(), ground)
 
     def test_sixty_alike_places_and_more(self):
         self.assertEqual(fixing(WHOLE, [2] * 60).size(), 6)
